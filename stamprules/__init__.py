@@ -1,0 +1,1 @@
+"""Rule books for concurrency control by stamps."""
