@@ -13,27 +13,29 @@ WORDS = {"r": "read", "w": "write", "c": "commit", "a": "abort"}
 
 def play(book, run):
     """The list of the outcomes of all steps of a run."""
-    check_run(run)
-    state = first_state(book)
-    outcomes = []
-    for number, step in enumerate(run, start=1):
-        state, outcome = taken(book, state, step, number)
-        outcomes.append(outcome)
-    return outcomes
+    return [outcome for _, outcome in traced(book, run)]
 
 
 def fault(book, run):
     """The number of the first step up to which the run is not serial, or None."""
-    check_run(run)
-    state = first_state(book)
-    outcomes = []
-    for number, step in enumerate(run, start=1):
-        state, outcome = taken(book, state, step, number)
-        outcomes.append(outcome)
+    trace = traced(book, run)
+    outcomes = [outcome for _, outcome in trace]
+    for number, (state, outcome) in enumerate(trace, start=1):
         # Only a commit changes what is executed again, and what it must lead to.
-        if outcome[0] == "commit" and not is_serial(run, outcomes, state):
+        if outcome[0] == "commit" and not is_serial(run, outcomes[:number], state):
             return number
     return None
+
+
+def traced(book, run):
+    """The list of the pairs of state and outcome after each step of a run."""
+    check_run(run)
+    state = first_state(book)
+    trace = []
+    for number, step in enumerate(run, start=1):
+        state, outcome = taken(book, state, step, number)
+        trace.append((state, outcome))
+    return trace
 
 
 def is_serial(run, outcomes, state):
