@@ -8,33 +8,40 @@ DIGITS = "0123456789"
 SIGNS = "abcdefghijklmnopqrstuvwxyz0123456789"
 LONGEST_NAME = 8
 MOST_DIGITS = 31
+LET_BY = ("read", "put", "skip", "commit")
 WORDS = {"r": "read", "w": "write", "c": "commit", "a": "abort"}
 
 
 def play(book, run):
     """The list of the outcomes of all steps of a run."""
-    return [outcome for _, outcome in traced(book, run)]
+    return [outcome for _, outcome, _ in traced(book, run)]
 
 
 def fault(book, run):
     """The number of the first step up to which the run is not serial, or None."""
     trace = traced(book, run)
-    outcomes = [outcome for _, outcome in trace]
-    for number, (state, outcome) in enumerate(trace, start=1):
+    outcomes = [outcome for _, outcome, _ in trace]
+    for number, (_, outcome, after) in enumerate(trace, start=1):
         # Only a commit changes what is executed again, and what it must lead to.
-        if outcome[0] == "commit" and not is_serial(run, outcomes[:number], state):
+        if outcome[0] == "commit" and not is_serial(run, outcomes[:number], after):
             return number
     return None
 
 
+def lets_by(book, run):
+    """Whether a book lets a run by: it grants all that is asked, and nobody falls."""
+    return all([word in LET_BY and not fallen for word, _, _, fallen in play(book, run)])
+
+
 def traced(book, run):
-    """The list of the pairs of state and outcome after each step of a run."""
+    """For each step of a run, the state before it, its outcome and the state after it."""
     check_run(run)
-    state = first_state(book)
+    state = first_state()
     trace = []
     for number, step in enumerate(run, start=1):
-        state, outcome = taken(book, state, step, number)
-        trace.append((state, outcome))
+        after, outcome = taken(book, state, step, number)
+        trace.append((state, outcome, after))
+        state = after
     return trace
 
 

@@ -19,24 +19,22 @@ class Item:
 
 
 class State:
-    """The settings of the book that is played, and all that the steps have led to.
+    """All that the steps have led to.
 
     `store` leads from names to items, `over` from the stamps of transactions
     that are not open to "committed" or "aborted", and `bonds` from stamps to
     the tuples of the stamps that they are bound to.
     """
 
-    def __init__(self, ends, keep, store, over, bonds):
-        self.ends = ends
-        self.keep = keep
+    def __init__(self, store, over, bonds):
         self.store = store
         self.over = over
         self.bonds = bonds
 
 
-def first_state(book):
+def first_state():
     """The state ahead of the first step."""
-    return State(book.ends, book.keep, {}, {}, {})
+    return State({}, {}, {})
 
 
 def item_of(state, name):
@@ -51,19 +49,19 @@ def ascending(stamps):
     return tuple(sorted([int(stamp) for stamp in stamps]))
 
 
-def taken(book, state, step, number):
-    """The state and the outcome after a step; if it is a write, it writes `number`."""
+def taken(book, state, step, value):
+    """The state and the outcome after a step; if it is a write, it writes `value`."""
     word, stamp = step[:2]
     if stamp in state.over:
         return state, ("void", (), None, ())
     if word == "commit":
-        return committed(state, stamp)
+        return committed(book, state, stamp)
     if word == "abort":
         return aborted(state, stamp, ())
-    return requested(book, state, step, number)
+    return requested(book, state, step, value)
 
 
-def committed(state, stamp):
+def committed(book, state, stamp):
     """The state and the outcome after a commit step."""
     bound = state.bonds.get(stamp, ())
     holders = ascending([holder for holder in bound if holder not in state.over])
@@ -71,9 +69,8 @@ def committed(state, stamp):
         return state, ("wait", (), holders, ())
     over = dict(state.over)
     over[stamp] = "committed"
-    store = {name: settled(item, stamp, state.keep) for name, item in state.store.items()}
-    after = State(state.ends, state.keep, store, over, state.bonds)
-    return after, ("commit", (), None, ())
+    store = {name: settled(item, stamp, book.keep) for name, item in state.store.items()}
+    return State(store, over, state.bonds), ("commit", (), None, ())
 
 
 def settled(item, stamp, keep):
@@ -97,7 +94,7 @@ def without(state, stamp):
     for each in fallen:
         over[each] = "aborted"
     store = {name: released(item, fallen) for name, item in state.store.items()}
-    return State(state.ends, state.keep, store, over, state.bonds), fallen
+    return State(store, over, state.bonds), fallen
 
 
 def falling(state, stamp):
@@ -119,19 +116,19 @@ def released(item, fallen):
     return Item(item.kept, None, None, item.reader)
 
 
-def requested(book, state, step, number):
+def requested(book, state, step, value):
     """The state and the outcome after a read or a write of an open transaction."""
-    between, first = asked(book, state, step, number)
+    between, first = asked(book, state, step, value)
     word, met, _, fallen = first
     if word != "wound":
         return between, first
     if step[1] in fallen:
         return between, ("abort", met, None, fallen)
-    after, (word, more, value, others) = asked(book, between, step, number)
-    return after, (word, (*met, *more), value, ascending([*fallen, *others]))
+    after, (word, more, returned, others) = asked(book, between, step, value)
+    return after, (word, (*met, *more), returned, ascending([*fallen, *others]))
 
 
-def asked(book, state, step, number):
+def asked(book, state, step, value):
     """The state and the outcome after a request is asked once.
 
     Its word is "wound" if the holder was aborted and nothing else was done yet.
@@ -151,14 +148,13 @@ def asked(book, state, step, number):
         return after, ("wound", met, None, fallen)
     if answer == "abort" or (answer == "old" and not older_values(item, stamp)):
         return aborted(state, stamp, met)
-    if binds(state.ends, spot, answer):
+    if binds(book.ends, spot, answer):
         state = with_bond(state, stamp, item.holder)
     if kind == "read":
-        value = value_read(item, stamp, answer)
-        return with_reader(state, name, stamp), ("read", met, value, ())
+        return with_reader(state, name, stamp), ("read", met, value_read(item, stamp, answer), ())
     if answer == "skip":
         return state, ("skip", met, None, ())
-    put = Item(item.kept, stamp, number, item.reader)
+    put = Item(item.kept, stamp, value, item.reader)
     return with_item(state, name, put), ("put", met, None, ())
 
 
@@ -208,7 +204,7 @@ def with_bond(state, stamp, holder):
         return state
     bonds = dict(state.bonds)
     bonds[stamp] = (*bound, holder)
-    return State(state.ends, state.keep, state.store, state.over, bonds)
+    return State(state.store, state.over, bonds)
 
 
 def with_reader(state, name, stamp):
@@ -223,4 +219,4 @@ def with_item(state, name, item):
     """The state in which this item has this name."""
     store = dict(state.store)
     store[name] = item
-    return State(state.ends, state.keep, store, state.over, state.bonds)
+    return State(store, state.over, state.bonds)

@@ -3,7 +3,7 @@
 import unittest
 
 from stamprules.runs import play, steps_of
-from tests.standin import StandIn, aborted, read
+from tests.helpers import aborted, book_of, read
 
 # Per row: the run, the entry, its answer, the answers elsewhere, the outcome.
 READS = [
@@ -95,7 +95,7 @@ class Answers(unittest.TestCase):
             for ends in ("now", "after"):
                 for keep in (1, 2, 20):
                     with self.subTest(f"{text}, {entry}: {answer}, {elsewhere}, {ends}, {keep}"):
-                        book = StandIn({**elsewhere, entry: answer}, ends, keep)
+                        book = book_of({**elsewhere, entry: answer}, ends, keep)
                         outcomes = play(book, steps_of(text))
                         self.assertEqual(outcomes[-1], expected)
                         self.assertEqual(len(outcomes), len(text.split()))
@@ -104,7 +104,7 @@ class Answers(unittest.TestCase):
         for text, entry, keep, expected in OLD:
             for ends in ("now", "after"):
                 with self.subTest(f"{text}, {entry}, {ends}, {keep}"):
-                    self.assertEqual(play(StandIn({entry: "old"}, ends, keep), steps_of(text))[-1], expected)
+                    self.assertEqual(play(book_of({entry: "old"}, ends, keep), steps_of(text))[-1], expected)
 
     def test_old_with_each_number_of_kept_versions(self):
         writes = " ".join([f"w{stamp} c{stamp}" for stamp in range(2, 44, 2)])
@@ -115,7 +115,7 @@ class Answers(unittest.TestCase):
                     expected = read(asker - 2, "read late")
                 with self.subTest(f"{keep} {asker}"):
                     run = steps_of(f"{writes} r{asker}")
-                    self.assertEqual(play(StandIn({"read late": "old"}, keep=keep), run)[-1], expected)
+                    self.assertEqual(play(book_of({"read late": "old"}, keep=keep), run)[-1], expected)
 
     def test_the_answer_is_asked_of_the_entry_that_is_met(self):
         # All other answers differ from abort, so that a wrong entry would show.
@@ -126,7 +126,7 @@ class Answers(unittest.TestCase):
         for text, entry, answer, elsewhere, expected in READS + WRITES + PASSED:
             if answer == "abort":
                 with self.subTest(f"{text}, {entry}"):
-                    book = StandIn({**others, **elsewhere, entry: "abort"})
+                    book = book_of({**others, **elsewhere, entry: "abort"})
                     self.assertEqual(play(book, steps_of(text))[-1], expected)
 
 

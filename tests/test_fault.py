@@ -1,7 +1,7 @@
 import unittest
 
 from stamprules.runs import fault, play, steps_of
-from tests.standin import StandIn
+from tests.helpers import book_of
 
 PUTS = {"write free passed": "put", "write own passed": "put"}
 SKIPS = {"write late": "skip", "write late passed": "skip", "write below": "skip", "write above": "skip",
@@ -13,7 +13,7 @@ class Faults(unittest.TestCase):
         run = steps_of(text) if isinstance(text, str) else text
         before = list(run)
         with self.subTest(f"{text} {ends} {keep}"):
-            found = fault(StandIn(answers, ends, keep), run)
+            found = fault(book_of(answers, ends, keep), run)
             self.assertEqual(found, expected)
             self.assertIn(found.__class__, (int, None.__class__))
             self.assertEqual(run, before)
@@ -110,7 +110,7 @@ class Faults(unittest.TestCase):
         late = [("read", 3, "y"), ("write", 2, "y"), ("commit", 2), ("commit", 3)]
         shifted = [(step[0], step[1] + 5, *step[2:]) for step in run]
         self.check(len(run) + 4, shifted + late, PUTS)
-        self.assertEqual(len(play(StandIn(), run)), len(run))
+        self.assertEqual(len(play(book_of(), run)), len(run))
 
 
 if __name__ == "__main__":

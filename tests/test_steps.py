@@ -2,7 +2,7 @@ import unittest
 
 from stamprules.errors import BadStep
 from stamprules.runs import fault, play
-from tests.standin import COMMIT, PUT, StandIn, read
+from tests.helpers import COMMIT, PUT, book_of, read
 
 MOST = 10 ** 30
 GOOD = [("write", 1, "x"), ("commit", 1), ("read", 2, "x"), ("abort", 3)]
@@ -29,17 +29,17 @@ class Steps(unittest.TestCase):
                 for ahead in range(len(GOOD) + 1):
                     with self.subTest(f"{ask.__name__}: part {number} behind {ahead}"):
                         with self.assertRaises(BadStep) as caught:
-                            ask(StandIn(), GOOD[:ahead] + [part] + GOOD)
+                            ask(book_of(), GOOD[:ahead] + [part] + GOOD)
                         self.assertEqual(caught.exception.index, ahead)
 
     def test_first_wrong_part_counts(self):
         for ask in (play, fault):
             with self.assertRaises(BadStep) as caught:
-                ask(StandIn(), [*GOOD, ("commit", 0), None, *GOOD, ()])
+                ask(book_of(), [*GOOD, ("commit", 0), None, *GOOD, ()])
             self.assertEqual(caught.exception.index, len(GOOD))
 
     def test_wrong_part_behind_a_fault(self):
-        book = StandIn({"write late": "skip", "read late": "last"})
+        book = book_of({"write late": "skip", "read late": "last"})
         run = [("write", 2, "x"), ("commit", 2), ("read", 1, "x"), ("commit", 1), ("commit", 0)]
         self.assertEqual(fault(book, run[:-1]), 4)
         with self.assertRaises(BadStep) as caught:
@@ -50,12 +50,12 @@ class Steps(unittest.TestCase):
         names = ["a", "z", "0", "9", "abcdefgh", "12345678", "x0y9"]
         for name in names:
             run = [("write", MOST, name), ("read", 1, name), ("commit", 1), ("commit", MOST)]
-            self.assertEqual(play(StandIn({"read below": "last"}), run),
+            self.assertEqual(play(book_of({"read below": "last"}), run),
                              [PUT, read(0, "read below"), COMMIT, COMMIT])
 
     def test_no_steps(self):
-        self.assertEqual(play(StandIn(), []), [])
-        self.assertIsNone(fault(StandIn(), []))
+        self.assertEqual(play(book_of(), []), [])
+        self.assertIsNone(fault(book_of(), []))
 
 
 if __name__ == "__main__":

@@ -2,7 +2,7 @@ import unittest
 
 from stamprules.errors import BadStep
 from stamprules.runs import play, steps_of
-from tests.standin import StandIn
+from tests.helpers import book_of
 
 # The ways of point 12, and the entry that the last step of each one meets.
 WAYS = {
@@ -47,7 +47,7 @@ class Texts(unittest.TestCase):
             self.assertTrue(all(step[2:] in ((), ("x",)) for step in run))
 
     def test_ways_meet_their_entries(self):
-        book = StandIn({"read below": "last", "read above": "last", "write own passed": "put",
+        book = book_of({"read below": "last", "read above": "last", "write own passed": "put",
                         "write free passed": "put"})
         for text, entry in WAYS.items():
             with self.subTest(text):
