@@ -27,6 +27,15 @@ class Leaving(unittest.TestCase):
         self.assertEqual(desk.state_of(1), "committed")
         self.assertIsNone(desk.holder_of("x"))
 
+    def test_each_question_alone_behind_a_block(self):
+        for ask, expected in ((lambda desk: desk.versions("x"), [(1, 5)]), (lambda desk: desk.holder_of("x"), None),
+                              (lambda desk: desk.reader_of("x"), 1), (lambda desk: desk.state_of(1), "committed")):
+            desk = Desk(Book())
+            with desk.begin() as asker:
+                asker.read("x")
+                asker.write("x", 5)
+            self.assertEqual(ask(desk), expected)
+
     def test_the_block_gives_the_transaction(self):
         asker = Desk(Book()).begin()
         with asker as held:

@@ -28,12 +28,13 @@ NO_ENTRIES = [
     "read free passed", "read own passed", "read below passed", "read  late", "read late ", " read late", "Read late",
     "read Late", "READ LATE", "readlate", "read_late", "read\tlate", "read late\n", "late read", "read late late",
     "read read late", "write late passed passed", "write passed", "write passed late", "passed", "write free  passed",
-    "write free passed ", "write free Passed", "write write free passed", "write  late", "write over", "read under open",
+    "write free passed ", "write free Passed", "write write free passed", "write  late", "write over",
+    "read under open",
     "abort", "last", "ends", "keep", "write freepassed", 0, 1, -1, 14, True, False, None, 1.5, b"read late",
     ("read late",), ("read", "late"), ["read late"], {"read late"}, {"read late": "last"}, ENTRIES, Book(),
 ]
-NO_ANSWERS = ["", " ", "Last", "LAST", "last ", " last", "lasts", "ski", "abort ", "Abort", "read late", "commit", "grant",
-              0, 1, 2, True, False, None, b"abort", ["abort"], ("abort",), {"abort"}, {}]
+NO_ANSWERS = ["", " ", "Last", "LAST", "last ", " last", "lasts", "ski", "abort ", "Abort", "read late", "commit",
+              "grant", 0, 1, 2, True, False, None, b"abort", ["abort"], ("abort",), {"abort"}, {}]
 # What the first bad pair of a dict is, whatever stands around it.
 NO_ENDS = ["", "Now", "NOW", "now ", " after", "After", "later", "never", 0, 1, True, False, None, b"now", ["now"],
            ("now",), ("now", "after"), {}, 10 ** 40]

@@ -299,7 +299,8 @@ class Blame(unittest.TestCase):
         self.assertEqual(len(found), 2 + 4 + 3 + 3 + 1 + 2 * 3 + 2 + 1 + 2 * 3)
         self.assertEqual([triple[:2] for triple in found[:8]],
                          [("read late", "last"), ("read late", "old"), ("read under", "last"), ("read under", "old"),
-                          ("read under", "open"), ("read under", "wait"), ("read below", "last"), ("read below", "open")])
+                          ("read under", "open"), ("read under", "wait"), ("read below", "last"),
+                          ("read below", "open")])
         runs = {(entry, answer): run for entry, answer, run in found}
         self.assertEqual(len(runs["read late", "last"]), 4)
         self.assertIsNone(runs["read late", "old"])

@@ -32,7 +32,8 @@ class LongRuns(unittest.TestCase):
         names = [f"item{number}" for number in range(200)]
         for book in (Book(), answered("old", "open", "put", "skip", keep=20), answered("open", "wait", ends="after"),
                      random_book(rng)):
-            for stamps, items in ((range(1, 201), ["x"]), (range(1, 201), names), (range(MOST - 3, MOST + 1), ["x", "y"])):
+            for stamps, items in ((range(1, 201), ["x"]), (range(1, 201), names),
+                                  (range(MOST - 3, MOST + 1), ["x", "y"])):
                 run = random_run(rng, 400, list(stamps), items)
                 self.assertEqual(play(book, run), model.outcomes(book, run))
                 found = fault(book, run)
@@ -59,7 +60,8 @@ class LongRuns(unittest.TestCase):
 class GreatDesks(unittest.TestCase):
     def test_100_transactions(self):
         rng = random.Random(82)
-        for book in (answered("open", "skip", "put", ends="after", keep=20), answered("wait"), answered("wound", "old")):
+        for book in (answered("open", "skip", "put", ends="after", keep=20), answered("wait"),
+                     answered("wound", "old")):
             desk, other = Desk(book), model.Model(book)
             askers = [desk.begin() for _ in range(100)]
             for number in range(1, 1001):
