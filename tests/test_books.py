@@ -35,7 +35,6 @@ NO_ENTRIES = [
 ]
 NO_ANSWERS = ["", " ", "Last", "LAST", "last ", " last", "lasts", "ski", "abort ", "Abort", "read late", "commit",
               "grant", 0, 1, 2, True, False, None, b"abort", ["abort"], ("abort",), {"abort"}, {}]
-# What the first bad pair of a dict is, whatever stands around it.
 NO_ENDS = ["", "Now", "NOW", "now ", " after", "After", "later", "never", 0, 1, True, False, None, b"now", ["now"],
            ("now",), ("now", "after"), {}, 10 ** 40]
 NO_KEEPS = [0, -1, -20, 21, 22, 100, 10 ** 30, -10 ** 30, 10 ** 6000, True, False, "1", "20", "", None, [1], (1,), {},
